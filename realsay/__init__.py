@@ -1,0 +1,1 @@
+"""Realsay: some and all over the numbers, reckoned with whole numbers alone."""

@@ -1,0 +1,97 @@
+"""Forms: sums of whole numbers times products of unknowns, each sum in one way only.
+
+A product is a tuple of pairs (name, power), names rising; () is 1.
+A form is a tuple of pairs (product, number), products rising, no number 0; () is nought.
+"""
+
+
+def form_of(pairs):
+    numbers = {}
+    for product, number in pairs:
+        numbers[product] = numbers.get(product, 0) + number
+    return tuple([(product, number) for product, number in sorted(numbers.items()) if number != 0])
+
+
+def plus(F, G):
+    return form_of(F + G)
+
+
+def times(F, G):
+    pairs = []
+    for left, number in F:
+        for right, factor in G:
+            pairs.append((joined(left, right), number * factor))
+    return form_of(pairs)
+
+
+def scaled(F, number):
+    if number == 0:
+        return ()
+    return tuple([(product, old * number) for product, old in F])
+
+
+def names_of(F):
+    found = {}
+    for product, number in F:
+        for name, power in product:
+            found[name] = True
+    return tuple(sorted(found))
+
+
+def by_power(F, name):
+    rows = [[]]
+    for product, number in F:
+        power = power_in(product, name)
+        while len(rows) <= power:
+            rows.append([])
+        rows[power].append((product_without(product, name), number))
+    # Without the name the products may stand in another order: a*x is before x, but a is behind 1.
+    return tuple([form_of(row) for row in rows])
+
+
+def lean(F):
+    divisor = 0
+    for product, number in F:
+        divisor = common_divisor(divisor, abs(number))
+    return tuple([(product, number // divisor) for product, number in F])
+
+
+def put_in(F, name, top, bottom):
+    parts = by_power(F, name)
+    highest = len(parts) - 1
+    tops = powers_up_to(top, highest)
+    bottoms = powers_up_to(bottom, highest)
+    pairs = []
+    for power, part in enumerate(parts):
+        pairs.extend(scaled(part, tops[power] * bottoms[highest - power]))
+    return form_of(pairs)
+
+
+def joined(left, right):
+    powers = dict(left)
+    for name, power in right:
+        powers[name] = powers.get(name, 0) + power
+    return tuple(sorted(powers.items()))
+
+
+def power_in(product, name):
+    return dict(product).get(name, 0)
+
+
+def product_without(product, name):
+    return tuple([pair for pair in product if pair[0] != name])
+
+
+def common_divisor(one, other):
+    while other != 0:
+        rest = one % other
+        one = other
+        other = rest
+    return one
+
+
+def powers_up_to(number, highest):
+    powers = [1]
+    while len(powers) <= highest:
+        powers.append(powers[-1] * number)
+    return powers
