@@ -1,9 +1,13 @@
-"""What several test files need: a time limit, a look at the shape of a form, and its value at a point."""
+"""What several test files need: a time limit, a look at the shape of forms and sentences, their values at points."""
 
+import math
 import signal
 import unittest
 from fractions import Fraction
 
+from realsay import errors
+
+WORDS_THAT_COMPARE = ("less", "most", "equal", "unlike")
 
 class Timed(unittest.TestCase):
     """A test of this class fails after a minute: a time that grows with the numbers never ends."""
@@ -45,6 +49,45 @@ class Timed(unittest.TestCase):
         self.assertIs(type(answer), int)
         self.assertEqual(answer, wanted)
 
+    def assert_sentence(self, sentence):
+        """The sentence is in one form, as points 11 and 12 tell it, kinds and all."""
+        self.assertIs(type(sentence), tuple)
+        word = sentence[0]
+        self.assertIs(type(word), str)
+        if word in ("yes", "no"):
+            self.assertEqual(len(sentence), 1)
+        elif word in WORDS_THAT_COMPARE:
+            self.assertEqual(len(sentence), 2)
+            self.assert_form(sentence[1])
+            self.assertEqual(math.gcd(*[number for product, number in sentence[1]]), 1)
+            self.assertTrue(any(product != () for product, number in sentence[1]))
+        else:
+            self.assert_parts(sentence)
+
+    def assert_parts(self, sentence):
+        word = sentence[0]
+        if word in ("both", "either"):
+            self.assertEqual(len(sentence), 2)
+            parts = sentence[1]
+            self.assertIs(type(parts), tuple)
+            self.assertGreaterEqual(len(parts), 2)
+            self.assertEqual(len(set(parts)), len(parts))
+        else:
+            self.assertIn(word, ("not", "some", "all"))
+            self.assertEqual(len(sentence), 2 if word == "not" else 3)
+            self.assertIs(type(sentence[-2]), str)
+            parts = sentence[-1:]
+        for part in parts:
+            self.assertNotIn(part, (("yes",), ("no",)))
+            self.assert_sentence(part)
+
+    def assert_lacks(self, name, asked, *arguments):
+        """The question is refused with Lacks for this name."""
+        with self.assertRaises(errors.Lacks) as caught:
+            asked(*arguments)
+        self.assertEqual(caught.exception.name, name)
+        return caught.exception
+
 
 def value(pairs, point):
     """The sum that the pairs stand for, the names being as in the point."""
@@ -55,3 +98,49 @@ def value(pairs, point):
             part *= Fraction(point[name]) ** power
         total += part
     return total
+
+
+def sign_there(form, point):
+    """The sign of the form at a point of numbers (p, q, r, s), by fractions a and b of a + b root r."""
+    names = set([name for product, number in form for name, power in product])
+    roots = set([point[name][2] for name in names if point[name][1] != 0]) or {0}
+    (r,) = roots
+    a, b = Fraction(0), Fraction(0)
+    for product, number in form:
+        c, d = Fraction(number), Fraction(0)
+        for name, power in product:
+            p, q, own, s = point[name]
+            for k in range(power):
+                c, d = (c * p + d * q * r) / s, (c * q + d * p) / s
+        a, b = a + c, b + d
+    one, other = (a > 0) - (a < 0), ((b > 0) - (b < 0)) * (r > 0)
+    if one * other >= 0:
+        return one or other
+    return one * ((a * a > b * b * r) - (a * a < b * b * r))
+
+
+def true_there(sentence, point):
+    """Whether a loose sentence holds at the point, straight by what point 11 says."""
+    word = sentence[0]
+    if word in WORDS_THAT_COMPARE:
+        sign = sign_there(sentence[1], point)
+        return {"less": sign < 0, "most": sign <= 0, "equal": sign == 0, "unlike": sign != 0}[word]
+    if word == "both":
+        return all([true_there(part, point) for part in sentence[1]])
+    if word == "either":
+        return any([true_there(part, point) for part in sentence[1]])
+    if word == "not":
+        return not true_there(sentence[1], point)
+    return {"yes": True, "no": False}[word]
+
+
+def words_in(sentence):
+    """All words of the sentence, as often as they come."""
+    word = sentence[0]
+    found = [word]
+    if word in ("both", "either"):
+        for part in sentence[1]:
+            found.extend(words_in(part))
+    elif word in ("not", "some", "all"):
+        found.extend(words_in(sentence[-1]))
+    return found

@@ -32,8 +32,48 @@ Eq NotEq Lt LtE Gt GtE Is IsNot In NotIn
 """.split())
 
 
+NO_NAMES = set("""
+register mro elements open input version_info with_traceback add_note format format_map attrgetter breakpoint
+builtins compile copyright credits delattr dir eval exec exit gc getattr globals hasattr help id importlib license
+locals methodcaller os quit setattr super type vars sys
+""".split())
+# What Python's own values have as methods and values: an object's own may be called so only where L26 lists it.
+TAKEN = set(sum([dir(kind) for kind in (str, int, list, tuple, dict, set, frozenset, bytes)], []))
+FREE_METHODS = METHODS | {"add", "discard"} | UNDERSCORED
+FREE_VALUES = set("count index title find get join lower upper split strip copy add".split())
+WALKED = set("zip enumerate reversed range items keys values".split())
+WALKING = set("list tuple dict sorted sum any all enumerate zip min max join".split())
+
+
 def walked(path):
     return ast.walk(ast.parse(path.read_text()))
+
+
+def top_names(path):
+    """What a file binds at its top, in its order, but what it draws from other files."""
+    names = []
+    for node in ast.parse(path.read_text()).body:
+        if isinstance(node, (ast.FunctionDef, ast.ClassDef)):
+            names.append(node.name)
+        elif isinstance(node, ast.Assign):
+            names.append(node.targets[0].id)
+    return names
+
+
+def imported(path):
+    """The pairs (file, name) that a file draws."""
+    found = []
+    for node in walked(path):
+        if isinstance(node, ast.ImportFrom):
+            found.extend([(node.module, alias.asname or alias.name) for alias in node.names])
+    return found
+
+
+def called(node):
+    """The name by which a call calls, None where it is no call."""
+    if not isinstance(node, ast.Call):
+        return None
+    return node.func.attr if isinstance(node.func, ast.Attribute) else getattr(node.func, "id", None)
 
 
 class Language(unittest.TestCase):
@@ -112,6 +152,97 @@ class Language(unittest.TestCase):
             self.assertEqual(node.decorator_list, [], place)
         for place, node in self.each(ast.arguments):
             self.assertEqual([node.vararg, node.kwarg, node.kwonlyargs, node.posonlyargs], [None, None, [], []], place)
+
+    def test_names_that_are_not_used(self):
+        for place, node in self.each(ast.Name, ast.arg, ast.FunctionDef, ast.ClassDef, ast.Attribute):
+            for field in ("id", "arg", "name", "attr"):
+                self.assertNotIn(getattr(node, field, None), NO_NAMES, place)
+
+    def test_each_name_is_bound_once_at_the_top(self):
+        for path in FILES:
+            names = top_names(path) + [name for module, name in imported(path)]
+            self.assertEqual(len(set(names)), len(names), path.name)
+
+    def test_values_of_the_top_are_plain(self):
+        plain = (ast.Assign, ast.Name, ast.Store, ast.Constant, ast.List, ast.Tuple, ast.Dict, ast.UnaryOp, ast.USub,
+                 ast.Load)
+        at_top = (ast.Expr, ast.ImportFrom, ast.FunctionDef, ast.ClassDef, ast.Assign)
+        for path in FILES:
+            for node in ast.parse(path.read_text()).body:
+                place = path.name + ":" + str(node.lineno)
+                self.assertIsInstance(node, at_top, place)
+                if isinstance(node, ast.Assign):
+                    for inner in ast.walk(node):
+                        self.assertIsInstance(inner, plain, place)
+                    held = [inner for inner in ast.walk(node) if isinstance(inner, (ast.List, ast.Dict))]
+                    self.assertTrue(held in ([], [node.value]), place)
+
+    def test_no_local_is_called_like_an_import_or_a_class(self):
+        for path in FILES:
+            classes = [node.name for node in walked(path) if isinstance(node, ast.ClassDef)]
+            taken = set(classes + [name for module, name in imported(path)])
+            for node in walked(path):
+                place = path.name + ":" + str(getattr(node, "lineno", 0))
+                if isinstance(node, ast.arg):
+                    self.assertNotIn(node.arg, taken, place)
+                if isinstance(node, ast.Name) and isinstance(node.ctx, ast.Store):
+                    self.assertNotIn(node.id, taken, place)
+
+    def test_names_are_drawn_from_the_file_that_defines_them(self):
+        for path in FILES:
+            for module, name in imported(path):
+                self.assertIn(name, top_names(PACKAGE / (module.split(".")[1] + ".py")), path.name)
+
+    def test_no_two_files_draw_from_one_another(self):
+        drawn = {path.stem: set([module.split(".")[1] for module, name in imported(path)]) for path in FILES}
+        while drawn:
+            last = [stem for stem in drawn if not drawn[stem] & set(drawn)]
+            self.assertNotEqual(last, [], drawn)
+            drawn = {stem: drawn[stem] for stem in drawn if stem not in last}
+
+    def test_own_methods_and_values(self):
+        methods, values = set(), set()
+        for place, node in self.each(ast.ClassDef):
+            self.assertEqual([inner for inner in node.body if not isinstance(inner, (ast.FunctionDef, ast.Pass))], [])
+            names = [inner.name for inner in node.body if isinstance(inner, ast.FunctionDef)]
+            self.assertEqual(len(set(names)), len(names), place)
+            methods |= set(names)
+        for place, node in self.each(ast.Attribute):
+            if isinstance(node.ctx, ast.Store):
+                values.add(node.attr)
+        self.assertEqual(methods & values, set())
+        self.assertEqual(methods & TAKEN - FREE_METHODS, set())
+        self.assertEqual(values & (TAKEN | {"args"}) - FREE_VALUES, set())
+
+    def test_is_stands_beside_none_true_and_false(self):
+        for place, node in self.each(ast.Compare):
+            if any([isinstance(op, (ast.Is, ast.IsNot)) for op in node.ops]):
+                beside = [side for side in [node.left] + node.comparators if isinstance(side, ast.Constant)]
+                self.assertTrue([side for side in beside if side.value in (None, True, False)], place)
+
+    def test_walked_at_once(self):
+        """zip and its like stand straight behind the in of a loop or as the first thing in what walks them."""
+        for path in FILES:
+            walking = set()
+            for node in walked(path):
+                if isinstance(node, (ast.For, ast.comprehension)):
+                    walking.add(node.iter)
+                elif called(node) in WALKING:
+                    walking |= set(node.args if called(node) == "zip" else node.args[:1])
+            for node in walked(path):
+                if called(node) in WALKED:
+                    self.assertIn(ast.dump(node), [ast.dump(inner) for inner in walking], path.name)
+
+    def test_no_set_is_kept(self):
+        for place, node in self.each(ast.Set):
+            self.fail(place)
+        for place, node in self.each(ast.Call):
+            self.assertNotIn(called(node), ("set", "frozenset", "chr"), place)
+
+    def test_texts_have_no_percent_sign(self):
+        for place, node in self.each(ast.Constant):
+            if isinstance(node.value, str):
+                self.assertNotIn("%", node.value, place)
 
 
 if __name__ == "__main__":
