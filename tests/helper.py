@@ -8,6 +8,13 @@ from fractions import Fraction
 from realsay import errors
 
 WORDS_THAT_COMPARE = ("less", "most", "equal", "unlike")
+YES = ("yes",)
+NO = ("no",)
+GREAT = 10 ** 30 - 1
+X = (("x", 1),)
+Y = (("y", 1),)
+XX = (("x", 2),)
+XY = (("x", 1), ("y", 1))
 
 class Timed(unittest.TestCase):
     """A test of this class fails after a minute: a time that grows with the numbers never ends."""
@@ -87,6 +94,11 @@ class Timed(unittest.TestCase):
             asked(*arguments)
         self.assertEqual(caught.exception.name, name)
         return caught.exception
+
+
+def below(name, number=0):
+    """The compare name < number."""
+    return ("less", tuple([((), -number)] * (number != 0) + [(((name, 1),), 1)]))
 
 
 def value(pairs, point):

@@ -6,19 +6,12 @@ import itertools
 import random
 import unittest
 
-from helper import WORDS_THAT_COMPARE, Timed, sign_there, true_there, words_in
+from helper import GREAT, NO, WORDS_THAT_COMPARE, XX, XY, YES, Timed, X, Y, below, sign_there, true_there, words_in
 from realsay import errors, holding
 from realsay.forms import form_of, scaled
 from realsay.holding import holds, opposite, plain
 from realsay.sentences import both, compare, either, free_in, never
 
-YES = ("yes",)
-NO = ("no",)
-GREAT = 10 ** 30 - 1
-X = (("x", 1),)
-Y = (("y", 1),)
-XX = (("x", 2),)
-XY = (("x", 1), ("y", 1))
 # x < 0, y <= 0, x^2 = 2, x y /= 0.
 A = ("less", ((X, 1),))
 B = ("most", ((Y, 1),))
@@ -27,11 +20,6 @@ D = ("unlike", ((XY, 1),))
 # Numbers of each sign, fractions and such with a root; two of them are 0 in x^2 - 2.
 NUMBERS = ((0, 0, 0, 1), (3, 0, 5, 2), (-3, 0, 0, 2), (0, 1, 2, 1), (0, -1, 2, 1), (-1, 1, 2, 3), (1, -1, 2, 1))
 POINTS = tuple([{"x": one, "y": other} for one, other in itertools.product(NUMBERS, repeat=2)])
-
-
-def below(name, number=0):
-    """The compare name < number."""
-    return ("less", form_of([(((name, 1),), 1), ((), -number)]))
 
 
 def some_loose(chance, depth):

@@ -6,29 +6,17 @@ import itertools
 import random
 import unittest
 
-from helper import WORDS_THAT_COMPARE, Timed, true_there
+from helper import GREAT, NO, WORDS_THAT_COMPARE, XX, XY, YES, Timed, X, Y, below, true_there
 from realsay import sentences
 from realsay.forms import form_of, names_of, scaled
 from realsay.sentences import all_of, both, compare, compares_of, either, free_in, never, put, some_of
 
-YES = ("yes",)
-NO = ("no",)
-GREAT = 10 ** 30 - 1
-X = (("x", 1),)
-Y = (("y", 1),)
-XX = (("x", 2),)
-XY = (("x", 1), ("y", 1))
 # x < 0, y <= 0, x^2 = 1, x y /= 0, x + y < 1.
 A = ("less", ((X, 1),))
 B = ("most", ((Y, 1),))
 C = ("equal", (((), -1), (XX, 1)))
 D = ("unlike", ((XY, 1),))
 E = ("less", (((), -1), (X, 1), (Y, 1)))
-
-
-def below(name, number=0):
-    """The compare name < number."""
-    return ("less", form_of([(((name, 1),), 1), ((), -number)]))
 
 
 def some_sentence(chance, depth, words):

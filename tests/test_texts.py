@@ -8,22 +8,16 @@ import re
 import unittest
 from fractions import Fraction
 
-from helper import Timed
+from helper import NO, XX, XY, YES, Timed, X, Y, below
 from realsay import errors, texts
 from realsay.forms import form_of
 from realsay.sentences import all_of, both, either, never, some_of
 from realsay.texts import read
 
-YES = ("yes",)
-NO = ("no",)
 THIRTY = "9" * 30
-X = (("x", 1),)
-Y = (("y", 1),)
-XX = (("x", 2),)
-XY = (("x", 1), ("y", 1))
 RESERVED = ("some", "all", "and", "or", "not", "yes", "no")
 # What is read of a < 0, b < 0, c < 0, x < 0, y < 0.
-A, B, C, LOW_X, LOW_Y = [("less", ((((name, 1),), 1),)) for name in "abcxy"]
+A, B, C, LOW_X, LOW_Y = [below(name) for name in "abcxy"]
 
 
 class Reading(Timed):
