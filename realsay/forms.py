@@ -17,11 +17,14 @@ def plus(F, G):
 
 
 def times(F, G):
-    pairs = []
-    for left, number in F:
-        for right, factor in G:
-            pairs.append((joined(left, right), number * factor))
-    return form_of(pairs)
+    names = names_of(F + G)
+    base = highest_power(F) + highest_power(G) + 1
+    right = coded(G, names, base)
+    numbers = {}
+    for code, number in coded(F, names, base):
+        for other, factor in right:
+            numbers[code + other] = numbers.get(code + other, 0) + number * factor
+    return form_of([(product_from(code, names, base), number) for code, number in numbers.items()])
 
 
 def scaled(F, number):
@@ -53,6 +56,8 @@ def lean(F):
     divisor = 0
     for product, number in F:
         divisor = common_divisor(divisor, abs(number))
+        if divisor == 1:
+            return F
     return tuple([(product, number // divisor) for product, number in F])
 
 
@@ -67,11 +72,32 @@ def put_in(F, name, top, bottom):
     return form_of(pairs)
 
 
-def joined(left, right):
-    powers = dict(left)
-    for name, power in right:
-        powers[name] = powers.get(name, 0) + power
-    return tuple(sorted(powers.items()))
+# A product's code is a whole number whose figures to the base are its powers; so two products are multiplied by adding
+# their codes, which is much faster where forms have many. The base is above all powers that come.
+def coded(F, names, base):
+    weights = dict(zip(names, powers_up_to(base, len(names))))
+    rows = []
+    for product, number in F:
+        rows.append((sum([power * weights[name] for name, power in product]), number))
+    return rows
+
+
+def product_from(code, names, base):
+    pairs = []
+    rest = code
+    for name in names:
+        if rest % base > 0:
+            pairs.append((name, rest % base))
+        rest = rest // base
+    return tuple(pairs)
+
+
+def highest_power(F):
+    highest = 0
+    for product, number in F:
+        for name, power in product:
+            highest = max(highest, power)
+    return highest
 
 
 def power_in(product, name):

@@ -6,8 +6,10 @@ import unittest
 from fractions import Fraction
 
 from realsay import errors
+from realsay.sentences import all_of, both, either, never, some_of
 
 WORDS_THAT_COMPARE = ("less", "most", "equal", "unlike")
+LOOSE_WORDS = ("both", "either", "not", "leaf")
 YES = ("yes",)
 NO = ("no",)
 GREAT = 10 ** 30 - 1
@@ -15,6 +17,7 @@ X = (("x", 1),)
 Y = (("y", 1),)
 XX = (("x", 2),)
 XY = (("x", 1), ("y", 1))
+
 
 class Timed(unittest.TestCase):
     """A test of this class fails after a minute: a time that grows with the numbers never ends."""
@@ -88,6 +91,25 @@ class Timed(unittest.TestCase):
             self.assertNotIn(part, (("yes",), ("no",)))
             self.assert_sentence(part)
 
+    def assert_number(self, number):
+        """The number is told as point 8 says, kinds and all."""
+        self.assertIs(type(number), tuple)
+        self.assertEqual([type(part) for part in number], [int] * 4)
+        self.assertGreaterEqual(number[2], 0)
+        self.assertGreaterEqual(number[3], 1)
+
+    def assert_fraction(self, number):
+        self.assert_number(number)
+        self.assertEqual(number[1], 0)
+
+    def assert_refused(self, kind, fields, asked, *arguments):
+        """The question is refused with this one of the refusals, and with these fields."""
+        with self.assertRaises(errors.RealError) as caught:
+            asked(*arguments)
+        self.assertIs(type(caught.exception), kind)
+        self.assertIsInstance(caught.exception, ValueError)
+        self.assertEqual(vars(caught.exception), fields)
+
     def assert_lacks(self, name, asked, *arguments):
         """The question is refused with Lacks for this name."""
         with self.assertRaises(errors.Lacks) as caught:
@@ -99,6 +121,20 @@ class Timed(unittest.TestCase):
 def below(name, number=0):
     """The compare name < number."""
     return ("less", tuple([((), -number)] * (number != 0) + [(((name, 1),), 1)]))
+
+
+def drawn(chance, depth, words, leaf):
+    """Any sentence in one form, of these words, with at most so many around each leaf, which is drawn too."""
+    word = chance.choice(words) if depth else "leaf"
+    if word in ("both", "either"):
+        parts = [drawn(chance, depth - 1, words, leaf) for k in range(chance.randint(2, 3))]
+        return both(parts) if word == "both" else either(parts)
+    if word == "not":
+        return never(drawn(chance, depth - 1, words, leaf))
+    if word in ("some", "all"):
+        bind = some_of if word == "some" else all_of
+        return bind(chance.choice("abxy"), drawn(chance, depth - 1, words, leaf))
+    return leaf(chance)
 
 
 def value(pairs, point):
@@ -131,12 +167,16 @@ def sign_there(form, point):
     return one * ((a * a > b * b * r) - (a * a < b * b * r))
 
 
+def said(word, sign):
+    """Whether what the word of a compare says is true of this sign."""
+    return {"less": sign < 0, "most": sign <= 0, "equal": sign == 0, "unlike": sign != 0}[word]
+
+
 def true_there(sentence, point):
     """Whether a loose sentence holds at the point, straight by what point 11 says."""
     word = sentence[0]
     if word in WORDS_THAT_COMPARE:
-        sign = sign_there(sentence[1], point)
-        return {"less": sign < 0, "most": sign <= 0, "equal": sign == 0, "unlike": sign != 0}[word]
+        return said(word, sign_there(sentence[1], point))
     if word == "both":
         return all([true_there(part, point) for part in sentence[1]])
     if word == "either":

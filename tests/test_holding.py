@@ -6,7 +6,8 @@ import itertools
 import random
 import unittest
 
-from helper import GREAT, NO, WORDS_THAT_COMPARE, XX, XY, YES, Timed, X, Y, below, sign_there, true_there, words_in
+from helper import (GREAT, LOOSE_WORDS, NO, WORDS_THAT_COMPARE, XX, XY, YES, Timed, X, Y, below, drawn,
+                    sign_there, true_there, words_in)
 from realsay import errors, holding
 from realsay.forms import form_of, scaled
 from realsay.holding import holds, opposite, plain
@@ -22,14 +23,8 @@ NUMBERS = ((0, 0, 0, 1), (3, 0, 5, 2), (-3, 0, 0, 2), (0, 1, 2, 1), (0, -1, 2, 1
 POINTS = tuple([{"x": one, "y": other} for one, other in itertools.product(NUMBERS, repeat=2)])
 
 
-def some_loose(chance, depth):
-    """Any loose sentence in one form, in names x and y, of all words."""
-    word = chance.choice(("both", "either", "not", "compare")) if depth else "compare"
-    if word in ("both", "either"):
-        parts = [some_loose(chance, depth - 1) for k in range(chance.randint(2, 3))]
-        return both(parts) if word == "both" else either(parts)
-    if word == "not":
-        return never(some_loose(chance, depth - 1))
+def some_compare(chance):
+    """Any compare in names x and y, or what it becomes."""
     pairs = [(chance.choice((X, Y, XX, XY, ())), chance.randint(-3, 3)) for k in range(3)]
     return compare(chance.choice(WORDS_THAT_COMPARE), form_of(pairs))
 
@@ -104,7 +99,7 @@ class Holds(Timed):
     def test_against_points(self):
         chance = random.Random(14)
         for k in range(150):
-            part = some_loose(chance, 4)
+            part = drawn(chance, 4, LOOSE_WORDS, some_compare)
             for point in POINTS[::3]:
                 self.assert_holds(part, point, true_there(part, point))
 
@@ -235,12 +230,12 @@ class PlainAndOpposite(Timed):
     def test_many(self):
         chance = random.Random(15)
         for k in range(150):
-            self.assert_both(some_loose(chance, 4), chance.sample(POINTS, 7))
+            self.assert_both(drawn(chance, 4, LOOSE_WORDS, some_compare), chance.sample(POINTS, 7))
 
     def test_what_is_told_may_be_handed_in_again(self):
         chance = random.Random(16)
         for k in range(30):
-            part = some_loose(chance, 4)
+            part = drawn(chance, 4, LOOSE_WORDS, some_compare)
             for told in (plain(part), opposite(part), opposite(opposite(part))):
                 self.assert_both(told, chance.sample(POINTS, 7))
 

@@ -6,7 +6,8 @@ import itertools
 import random
 import unittest
 
-from helper import GREAT, NO, WORDS_THAT_COMPARE, XX, XY, YES, Timed, X, Y, below, true_there
+from helper import (GREAT, LOOSE_WORDS, NO, WORDS_THAT_COMPARE, XX, XY, YES, Timed, X, Y, below, drawn,
+                    true_there)
 from realsay import sentences
 from realsay.forms import form_of, names_of, scaled
 from realsay.sentences import all_of, both, compare, compares_of, either, free_in, never, put, some_of
@@ -19,17 +20,8 @@ D = ("unlike", ((XY, 1),))
 E = ("less", (((), -1), (X, 1), (Y, 1)))
 
 
-def some_sentence(chance, depth, words):
-    """Any sentence in one form, of these words, in names a, b, x, y."""
-    word = chance.choice(words) if depth else "compare"
-    if word in ("both", "either"):
-        parts = [some_sentence(chance, depth - 1, words) for k in range(chance.randint(2, 3))]
-        return both(parts) if word == "both" else either(parts)
-    if word == "not":
-        return never(some_sentence(chance, depth - 1, words))
-    if word in ("some", "all"):
-        bind = some_of if word == "some" else all_of
-        return bind(chance.choice("abxy"), some_sentence(chance, depth - 1, words))
+def some_compare(chance):
+    """Any compare in names a, b, x, y, or what it becomes."""
     pairs = []
     for k in range(chance.randint(1, 3)):
         names = sorted(chance.sample("abxy", chance.randint(0, 2)))
@@ -376,7 +368,7 @@ class Put(Timed):
     def test_against_points(self):
         chance = random.Random(12)
         for k in range(300):
-            part = some_sentence(chance, 4, ("both", "either", "not", "compare"))
+            part = drawn(chance, 4, LOOSE_WORDS, some_compare)
             name = chance.choice("abxy")
             top, bottom = chance.randint(-4, 4), chance.randint(1, 4)
             told = put(part, name, top, bottom)
@@ -393,7 +385,7 @@ class Put(Timed):
 class All(Timed):
     """What holds for any sentence."""
 
-    WORDS = ("both", "either", "not", "some", "all", "compare")
+    WORDS = ("both", "either", "not", "some", "all", "leaf")
 
     def free_by_hand(self, part, bound):
         word = part[0]
@@ -410,7 +402,7 @@ class All(Timed):
     def test_any(self):
         chance = random.Random(13)
         for k in range(300):
-            part = some_sentence(chance, 5, self.WORDS)
+            part = drawn(chance, 5, self.WORDS, some_compare)
             self.assert_sentence(part)
             free = free_in(part)
             self.assertIs(type(free), tuple)
