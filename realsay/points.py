@@ -8,7 +8,7 @@ nought, it is that of U, and W is not looked at.
 from realsay.errors import Beyond
 from realsay.forms import by_power, plus, scaled, times
 from realsay.holding import opposite
-from realsay.sentences import YES, both, compare, either
+from realsay.sentences import NO, YES, both, compare, either
 
 
 # Only the classes under this one are made. Each has its own placed, which is asked where the name stands in the form.
@@ -51,8 +51,8 @@ class Border(Point):
 
     # S^2 times the form is told; where the form is without the name, it is told itself.
     def reckoned(self, parts):
-        if parts[1] == () and parts[2] == ():
-            return rootless(parts[0])
+        if parts[2] == ():
+            return self.reckoned_straight(parts)
         square = times(self.P, self.P)
         if self.q != 0:
             square = plus(square, self.R)
@@ -60,9 +60,35 @@ class Border(Point):
         straight = times(parts[1], times(self.S, self.P))
         U = plus(plus(bent, straight), times(parts[0], times(self.S, self.S)))
         V = scaled(plus(scaled(times(parts[2], self.P), 2), times(parts[1], self.S)), self.q)
+        return self.with_root(U, V)
+
+    def reckoned_straight(self, parts):
+        if parts[1] == ():
+            return rootless(parts[0])
+        U = plus(times(parts[1], self.P), times(parts[0], self.S))
+        return self.with_root(self.lifted(U), self.lifted(scaled(parts[1], self.q)))
+
+    # A form of the first power is told times S; times S once more its sign is the same.
+    def lifted(self, F):
+        return times(F, self.S)
+
+    def with_root(self, U, V):
         if V == ():
             return rootless(U)
         return (U, V, plus(times(U, U), scaled(times(times(V, V), self.R), -1)))
+
+
+# The border P / S where S is above 0: so the sign of a form of the first power is told without S^2, which keeps forms
+# much smaller where unknowns are taken out one behind the other.
+class Upright(Border):
+    def __init__(self, P, S):
+        Border.__init__(self, P, 0, (), S)
+
+    def guard(self):
+        return above("less", self.S)
+
+    def lifted(self, F):
+        return F
 
 
 class Past(Point):
@@ -79,6 +105,11 @@ class Past(Point):
         return by_first(word, [self.border.reckoned(parts), self.border.reckoned(slope), rootless(parts[2])])
 
 
+class PastUpright(Past):
+    def __init__(self, P, S):
+        self.border = Upright(P, S)
+
+
 def rootless(F):
     return (F, (), ())
 
@@ -93,7 +124,12 @@ def on_a_stretch(word, parts):
 def by_first(word, rows):
     told = says(word, rows[-1])
     for row in reversed(rows[:-1]):
-        told = either([says("less", row), both([says("equal", row), told])])
+        if told == YES:
+            told = says("most", row)
+        elif told == NO:
+            told = says("less", row)
+        else:
+            told = either([says("less", row), both([says("equal", row), told])])
     return told
 
 

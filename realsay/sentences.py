@@ -134,10 +134,15 @@ def note_compares(S, found):
 
 
 def note_free(S, bound, found):
-    if is_compare(S):
-        for name in names_of(S[1]):
-            if name not in bound:
+    inner = S
+    within = bound
+    # Words straight within one another may be very many: they are passed without a call for each.
+    while binds(inner):
+        within = within + (inner[1],)
+        inner = inner[2]
+    if is_compare(inner):
+        for name in names_of(inner[1]):
+            if name not in within:
                 found[name] = True
-    inner = bound + (S[1],) if binds(S) else bound
-    for part in parts_within(S):
-        note_free(part, inner, found)
+    for part in parts_within(inner):
+        note_free(part, within, found)

@@ -7,8 +7,8 @@ import random
 import unittest
 from fractions import Fraction
 
-from helper import (GREAT, NO, WORDS_THAT_COMPARE, XX, XY, YES, Timed, X, Y, said, sign_there, true_there, value,
-                    words_in)
+from helper import (GREAT, NO, WORDS_THAT_COMPARE, XX, XY, YES, Timed, X, Y, fraction_told, said, sign_there,
+                    true_there, value)
 from realsay import errors, points
 from realsay.forms import form_of, names_of, plus, scaled, times
 from realsay.holding import holds
@@ -16,7 +16,6 @@ from realsay.points import Border, Far, Past, Point
 from realsay.sentences import compares_of, free_in
 from realsay.texts import read
 
-PLAIN = {"yes", "no", "both", "either", *WORDS_THAT_COMPARE}
 NOUGHT = ()
 YYX = (("x", 1), ("y", 2))
 # So little above a border, and so far below, that no form of small numbers changes its sign there, or none of thirty
@@ -55,10 +54,6 @@ def told_number(whole, rooted, inner):
             inner.numerator * inner.denominator, bottom)
 
 
-def fraction_told(fraction):
-    return (fraction.numerator, 0, 0, fraction.denominator)
-
-
 class Putting(Timed):
     def place(self, kind, four, at, fine=SMALL):
         """The place that the point stands for where the others are as told, or None where its guard should not hold."""
@@ -72,11 +67,6 @@ class Putting(Timed):
         more = Fraction(1, fine) if kind is Past else 0
         return told_number(value(P, at) / bottom + more, q / bottom, inner)
 
-    def assert_told(self, told, names):
-        self.assert_sentence(told)
-        self.assertLessEqual(set(words_in(told)), PLAIN)
-        self.assertLessEqual(set(free_in(told)), set(names))
-
     def assert_put(self, kind, four, F, others, fine=SMALL):
         """Guard and compares of the form at the point are as point 23 says, where the others are as told."""
         point = kind(*four)
@@ -84,11 +74,11 @@ class Putting(Timed):
         if four:
             names.update(names_of(four[0] + four[3]), names_of(four[2]) if four[1] != 0 else ())
         guard = point.guard()
-        self.assert_told(guard, names)
+        self.assert_plain(guard, names)
         names.update(names_of(F))
         put = {word: point.into(word, F, "x") for word in WORDS_THAT_COMPARE}
         for told in put.values():
-            self.assert_told(told, names - {"x"})
+            self.assert_plain(told, names - {"x"})
         for at in others:
             numbers = {name: fraction_told(number) for name, number in at.items()}
             place = self.place(kind, four, at, fine)
@@ -130,7 +120,7 @@ class Guards(Putting):
         """The guard holds at just the y of which this is true."""
         for kind in (Border, Past):
             told = kind(*four).guard()
-            self.assert_told(told, names_of(four[3]) + (names_of(four[2]) if four[1] != 0 else ()))
+            self.assert_plain(told, names_of(four[3]) + (names_of(four[2]) if four[1] != 0 else ()))
             for y in SOME_Y:
                 self.assertIs(true_there(told, {"y": fraction_told(y)}), wanted(y), (four, y))
 
@@ -343,8 +333,39 @@ class AtABorder(Putting):
                 for F in self.FORMS_IN_Y:
                     for word in WORDS_THAT_COMPARE:
                         told = point.into(word, F, "x")
-                        self.assert_told(told, ("y",))
+                        self.assert_plain(told, ("y",))
                         self.assertEqual(told, kind(form("y"), 0, NOUGHT, form("y - 1")).into(word, F, "x"))
+
+
+class Upright(Putting):
+    """The package's own points P / S where S is above 0, and past them."""
+
+    def test_guard_and_compares(self):
+        numbers = [form(text) for text in ("2", "-3", "y", "y - 1", "-y^2 + 4", "z")] + [NOUGHT]
+        for P, S in itertools.product(numbers[1:4], numbers):
+            for own, kind in ((points.Upright, Border), (points.PastUpright, Past)):
+                point = own(P, S)
+                guard = point.guard()
+                self.assert_plain(guard, names_of(S))
+                for F in AtABorder.FORMS_IN_Y + AtABorder.FORMS[3:9] + [form("y*x - z"), form("y"), NOUGHT]:
+                    put = {word: point.into(word, F, "x") for word in WORDS_THAT_COMPARE}
+                    for told in put.values():
+                        self.assert_plain(told, set(names_of(P + S + F)) - {"x"})
+                    self.assert_told_there(put, guard, kind, (P, 0, NOUGHT, S), F)
+
+    def assert_told_there(self, put, guard, kind, four, F):
+        for at in AT_YZ[::6]:
+            numbers = {name: fraction_told(number) for name, number in at.items()}
+            self.assertIs(holds(guard, numbers), value(four[3], at) > 0)
+            if value(four[3], at) > 0:
+                sign = sign_there(F, dict(numbers, x=self.place(kind, four, at)))
+                for word in WORDS_THAT_COMPARE:
+                    self.assertIs(holds(put[word], numbers), said(word, sign), (kind, four, word, F, at))
+
+    def test_the_third_power_is_refused(self):
+        F = form("x^3 - y")
+        for own in (points.Upright, points.PastUpright):
+            self.assert_refused(errors.Beyond, {"name": "x", "form": F}, own(form("y"), form("2")).into, "less", F, "x")
 
 
 class WhereOthersHaveRoots(Putting):
@@ -391,11 +412,11 @@ class Refused(Putting):
         for kind, four in self.KINDS:
             F = form_of([((("x", 3), ("y", 1)), -6), (XX, 4), ((), 2)])
             self.assert_refused(errors.Beyond, {"name": "x", "form": F}, kind(*four).into, "less", F, "x")
-            self.assert_told(kind(*four).into("less", F, "y"), ("x", "y"))
+            self.assert_plain(kind(*four).into("less", F, "y"), ("x", "y"))
 
     def test_high_powers_of_others_are_let_in(self):
         for kind, four in self.KINDS:
-            self.assert_told(kind(*four).into("less", form("x^2 + y^9*x"), "x"), ("y",))
+            self.assert_plain(kind(*four).into("less", form("x^2 + y^9*x"), "x"), ("y",))
 
 
 class HandedIn(Putting):
@@ -425,7 +446,7 @@ class HandedIn(Putting):
                 for q in (1, 0, -1):
                     four = (form("z"), q, form("z + 1"), form("-3"))
                     again = Past(*four).into(part[0], F, "y")
-                    self.assert_told(again, ("z",))
+                    self.assert_plain(again, ("z",))
                     for z in SOME_Y:
                         if z >= -1:
                             place = self.place(Past, four, {"z": z})

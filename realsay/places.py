@@ -1,0 +1,99 @@
+"""Places at which it is enough to look, whether some number for a name makes a plain sentence hold.
+
+A place is told as a tuple, for which point_at makes the test point: ("far",); ("border", P, q, R, S) and
+("past", P, q, R, S), the four as in a test point; ("upright", P, S) and ("past upright", P, S), where q is 0 and S is
+above 0. All compares of the sentences here let the name in.
+"""
+
+from realsay.forms import by_power, names_of, plus, power_in, scaled, times
+from realsay.points import Border, Far, Past, PastUpright, Upright
+from realsay.sentences import built_anew, compares_of, is_compare, parts_within
+
+
+def point_at(place):
+    kind = place[0]
+    if kind == "far":
+        return Far()
+    if kind == "border":
+        return Border(place[1], place[2], place[3], place[4])
+    if kind == "past":
+        return Past(place[1], place[2], place[3], place[4])
+    if kind == "upright":
+        return Upright(place[1], place[2])
+    return PastUpright(place[1], place[2])
+
+
+# Where the sentence holds, it does so from far below on, or from a place on at which some compare begins to hold.
+def places_of(S, name):
+    sure = sure_places(S, name)
+    if sure != []:
+        return sure
+    found = {("far",): True}
+    for part in compares_of(S):
+        for place in beginnings(part[0], part[1], name):
+            found[place] = True
+    return list(found)
+
+
+# Where the sentence says that a form is 0, and the highest power of the name has a number before it, it can hold at the
+# borders of this form alone; where there are several such forms, those of the one with the fewest are told.
+def sure_places(S, name):
+    told = []
+    for part in (S[1] if S[0] == "both" else (S,)):
+        if part[0] == "equal" and leads_with_number(part[1], name):
+            found = beginnings(part[0], part[1], name)
+            if told == [] or len(found) < len(told):
+                told = found
+    return told
+
+
+def leads_with_number(F, name):
+    parts = by_power(F, name)
+    return len(parts) > 1 and names_of(parts[-1]) == ()
+
+
+# The places from which on a compare holds that did not hold straight before; for a border of equal, itself.
+def beginnings(word, F, name):
+    parts = by_power(F, name)
+    if len(parts) == 1:
+        return []
+    if len(parts) == 2:
+        return straight_beginnings(word, parts)
+    return bent_beginnings(word, parts)
+
+
+# Less and most begin to hold where the form falls, that is where the number before the name is below 0.
+def straight_beginnings(word, parts):
+    kind = "upright" if word in ("most", "equal") else "past upright"
+    falling = (kind, parts[0], scaled(parts[1], -1))
+    rising = (kind, scaled(parts[0], -1), parts[1])
+    places = [falling] if word in ("less", "most") else [falling, rising]
+    return [place for place in places if may_be_above(place[2])]
+
+
+def may_be_above(F):
+    return names_of(F) != () or F[0][1] > 0
+
+
+# A form that opens upwards falls at the lesser one of its borders, one that opens downwards at the greater one.
+def bent_beginnings(word, parts):
+    kind = "border" if word in ("most", "equal") else "past"
+    opens = 1 if may_be_above(parts[2]) else -1
+    top = scaled(parts[1], -opens)
+    inner = plus(times(parts[1], parts[1]), scaled(times(parts[2], parts[0]), -4))
+    bottom = scaled(parts[2], 2 * opens)
+    sides = (-opens,) if word in ("less", "most") else (-1, 1)
+    return [(kind, top, side, inner, bottom) for side in sides]
+
+
+# The sentence with the name turned about: some number for it makes this one hold just where some makes the other.
+def mirrored(S, name):
+    if is_compare(S):
+        pairs = []
+        for product, number in S[1]:
+            pairs.append((product, -number if power_in(product, name) == 1 else number))
+        return (S[0], tuple(pairs))
+    parts = []
+    for part in parts_within(S):
+        parts.append(mirrored(part, name))
+    return built_anew(S, parts)
