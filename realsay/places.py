@@ -75,15 +75,14 @@ def may_be_above(F):
     return names_of(F) != () or F[0][1] > 0
 
 
-# A form that opens upwards falls at the lesser one of its borders, one that opens downwards at the greater one.
+# Less and most begin to hold at the lesser border where the number before the second power is above 0, and at the
+# greater one where it is below 0: as this number is the bottom, both are the one from which the root is taken away.
 def bent_beginnings(word, parts):
     kind = "border" if word in ("most", "equal") else "past"
-    opens = 1 if may_be_above(parts[2]) else -1
-    top = scaled(parts[1], -opens)
+    top = scaled(parts[1], -1)
     inner = plus(times(parts[1], parts[1]), scaled(times(parts[2], parts[0]), -4))
-    bottom = scaled(parts[2], 2 * opens)
-    sides = (-opens,) if word in ("less", "most") else (-1, 1)
-    return [(kind, top, side, inner, bottom) for side in sides]
+    sides = (-1,) if word in ("less", "most") else (-1, 1)
+    return [(kind, top, side, inner, scaled(parts[2], 2)) for side in sides]
 
 
 # The sentence with the name turned about: some number for it makes this one hold just where some makes the other.

@@ -2,12 +2,14 @@
 
 import inspect
 import itertools
+import random
 import unittest
 
-from helper import NO, WORDS_THAT_COMPARE, YES, Timed, below
+from helper import LOOSE_WORDS, NO, WORDS_THAT_COMPARE, YES, Timed, below, drawn
 from realsay import errors, rules
+from realsay.forms import form_of
 from realsay.rules import allowed
-from realsay.sentences import all_of, both, either, never, some_of
+from realsay.sentences import all_of, both, compare, either, never, some_of
 from realsay.texts import read
 
 
@@ -168,6 +170,8 @@ class FreeNamesBeside(Rules):
         self.assert_beyond("some y: (some x: x^2 < 1) or b*y < 1", "y", "b*y - 1")
         self.assert_allowed("(some y: b*y < 1) and (some x: x^2 < 1)")
         self.assert_beyond("some y: some z: b*y < z and (some x: x^2 < 1)", "y", "b*y - z")
+        self.assert_beyond("some y: b*y < 1 and (some x: x^2 < 1) and (some z: z < 1)", "y", "b*y - 1")
+        self.assert_beyond("some y: b*y < 1 and (some z: z < 1) and (some x: x^2 < 1)", "y", "b*y - 1")
 
     def test_in_the_reach_of_a_bent_word(self):
         self.assert_beyond_with_each_word("some x: some y: b*y + x^2 < 0", "y", "b*y + x^2")
@@ -202,6 +206,7 @@ class SecondPowerInTheReachOfOthers(Rules):
         self.assert_allowed_with_each_word("some y: some x: x^2 < y")
         self.assert_allowed_with_each_word("some y: (some x: x^2 < y) and (some z: z^2 < y)")
         self.assert_allowed_with_each_word("some y: some x: x^2 < y and (some z: some w: z + w < x)")
+        self.assert_allowed("(some z: z < 1) and (some w: w^2 < 1) and (some y: some x: x^2 < y)")
 
     def test_of_one_that_is_bent(self):
         self.assert_beyond_with_each_word("some y: some x: x^2 + y^2 < 0", "x", "x^2 + y^2")
@@ -242,6 +247,72 @@ class WhichIsTold(Rules):
         self.assert_twice("(some x: x^3 < 1) and x < 1", "x")
         self.assert_twice("some x: x^3 < 1 and (all x: x < 1)", "x")
         self.assert_twice("(some x: some y: x*y < 1) and (some z: z < 1) and z = 3", "z")
+
+
+def places(S, path=()):
+    """Pairs of a path and the sentence there, of the sentence and all within it, in the order in which they stand."""
+    yield path, S
+    inner = S[1] if S[0] in ("both", "either") else S[-1:] if S[0] in ("not", "some", "all") else ()
+    for place, part in enumerate(inner):
+        yield from places(part, path + (place,))
+
+
+def refusal(S):
+    """What refuses the sentence, straight by the words of points 27 and 28: a class and its fields, or None."""
+    words = [(path, part[1]) for path, part in places(S) if part[0] in ("some", "all")]
+    compares = [(path, part[1]) for path, part in places(S) if part[0] in WORDS_THAT_COMPARE]
+
+    def within(path, word):
+        return len(path) > len(word[0]) and path[:len(word[0])] == word[0]
+
+    def bent(word):
+        return any([dict(product).get(word[1], 0) >= 2 for path, form in compares if within(path, word)
+                    for product, number in form])
+
+    free = set([name for path, form in compares for product, number in form for name, power in product
+                if not any([within(path, word) and word[1] == name for word in words])])
+    twice = set([word[1] for word in words if word[1] in free or
+                 any([within(word[0], other) and other[1] == word[1] for other in words])])
+    for word in words:
+        if word[1] in twice:
+            return errors.Twice, {"name": word[1]}
+    for word in words:
+        around = [other for other in words if within(word[0], other)]
+        in_bent = any([bent(other) for other in around])
+        near_bent = in_bent or any([bent(other) for other in words if within(other[0], word)])
+        for path, form in compares:
+            for product, number in form:
+                power = dict(product).get(word[1], 0)
+                beside = set(dict(product)) - {word[1]}
+                if within(path, word) and power > 0 and (
+                        power >= 3 or power == 2 and beside or beside - free or beside & free and near_bent
+                        or power == 2 and (len(around) >= 2 or in_bent)):
+                    return errors.Beyond, {"name": word[1], "form": form}
+    return None
+
+
+class Drawn(Rules):
+    def leaf(self, chance):
+        pairs = [((), 1)]
+        for k in range(chance.randint(1, 3)):
+            names = chance.sample("abxy", chance.choice((1, 1, 1, 1, 1, 2)))
+            pairs.append((tuple([(name, chance.choice((1, 1, 1, 1, 2, 2, 3))) for name in sorted(names)]), 1))
+        return compare(chance.choice(WORDS_THAT_COMPARE), form_of(pairs))
+
+    def test_by_the_words_of_the_points(self):
+        chance = random.Random(28)
+        found = {}
+        for k in range(6000):
+            S = drawn(chance, chance.randint(1, 5), LOOSE_WORDS + ("some", "all") * 2, self.leaf)
+            wanted = refusal(S)
+            kind = None if wanted is None else wanted[0]
+            found[kind] = found.get(kind, 0) + 1
+            if kind is None:
+                self.assertIs(allowed(S), True, S)
+            else:
+                self.assert_refused(kind, wanted[1], allowed, S)
+        self.assertGreater(min(found.values()), 300)
+        self.assertEqual(set(found), {None, errors.Twice, errors.Beyond})
 
 
 class HandedIn(Rules):

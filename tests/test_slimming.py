@@ -79,6 +79,14 @@ class Within(Slim):
         self.assertEqual(self.assert_slim("x < 1 and (y < 0 or y < 3 and (x < 2 and y > 5 or x > 4))"),
                          read("x < 1 and y < 0"))
 
+    def test_a_part_that_becomes_a_compare_settles_others(self):
+        self.assertEqual(self.assert_slim("x < 1 and (x > 2 or y < 0) and (z < 1 or y < 1)"), read("x < 1 and y < 0"))
+        self.assertEqual(self.assert_slim("x < 1 and (z < 1 or y < 1) and (x > 2 or y < 0)"), read("x < 1 and y < 0"))
+        self.assertEqual(self.assert_slim("x < 1 and (x > 2 or y < 0 and z < 0) and (x = z or y < 1)"),
+                         read("x < 1 and y < 0 and z < 0"))
+        self.assertEqual(self.assert_slim("x < 1 or x < 2 and y < 0 or (x > 0 and (y >= 0 or y < -1))"),
+                         read("y >= 0 or y < -1 or x < 2"))
+
     def test_parts_of_parts_are_drawn_up(self):
         self.assertEqual(self.assert_slim("(x < 1 and y < 1) and (x < 2 and x /= y)"),
                          both([read("x < 1"), read("y < 1"), read("x /= y")]))
@@ -97,7 +105,7 @@ class Within(Slim):
             pairs += [(chance.choice((XX, XY)), 1)] * (chance.random() < 0.2)
             return compare(chance.choice(WORDS_THAT_COMPARE), form_of(pairs))
 
-        for k in range(400):
+        for k in range(250):
             self.assert_slim(drawn(chance, chance.randint(1, 4), PLAIN_WORDS, leaf))
 
     def test_two_hundred_sentences_within_one_another(self):

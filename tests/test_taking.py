@@ -198,6 +198,14 @@ class Joined(Taking):
         self.assert_taken("x^2 + a*x + b < 0 and x >= c", count=100)
         self.assert_taken("x^2 + a*x + b = 0 and x^2 + c*x = 1", count=100)
 
+    def test_more_bounds_on_one_side(self):
+        for text in ("x > y and x > z and x > 1 and x < w", "x < y and x < z and x < 1 and x > w",
+                     "x >= y and x > z and x >= 1 and x <= w", "x <= y and x <= z and x < 1 and x >= w",
+                     "x > y and x > z and x /= 1 and x^2 < w", "(x > y or x >= z) and x > 1 and x < w",
+                     "y*x > 1 and z*x > 1 and x > -2 and x <= w", "x > y and x > z and x > 1",
+                     "x < y and x < z and x < 1"):
+            self.assert_taken(text, count=60)
+
     def test_drawn(self):
         chance = random.Random(26)
         straight = [((), 4), (X, 3), (Y, 3), (Z, 2), (XY, 2), ((("x", 1), ("z", 1)), 1), ((("y", 2),), 2)]
