@@ -26,25 +26,40 @@ def point_at(place):
 # Where the sentence holds, it does so from far below on, or from a place on at which some compare begins to hold.
 def places_of(S, name):
     sure = sure_places(S, name)
-    if sure != []:
-        return sure
+    if sure is not None:
+        return list(sure)
     found = {("far",): True}
     for part in compares_of(S):
-        for place in beginnings(part[0], part[1], name):
-            found[place] = True
+        note_places(beginnings(part[0], part[1], name), found)
     return list(found)
 
 
-# Where the sentence says that a form is 0, and the highest power of the name has a number before it, it can hold at the
-# borders of this form alone; where there are several such forms, those of the one with the fewest are told.
+# Where a compare says that a form is 0, and a number stands before the highest power of the name, it holds at borders
+# of this form alone. So a both can hold only at those of any part that has such, and an either only at those of all its
+# parts, where each has such. Told is a dict of them, or None.
 def sure_places(S, name):
-    told = []
-    for part in (S[1] if S[0] == "both" else (S,)):
-        if part[0] == "equal" and leads_with_number(part[1], name):
-            found = beginnings(part[0], part[1], name)
-            if told == [] or len(found) < len(told):
+    told = None
+    if S[0] == "equal" and leads_with_number(S[1], name):
+        told = {}
+        note_places(beginnings(S[0], S[1], name), told)
+    if S[0] == "both":
+        for part in S[1]:
+            found = sure_places(part, name)
+            if told is None or (found is not None and len(found) < len(told)):
                 told = found
+    if S[0] == "either":
+        told = {}
+        for part in S[1]:
+            found = sure_places(part, name)
+            if found is None:
+                return None
+            note_places(list(found), told)
     return told
+
+
+def note_places(places, found):
+    for place in places:
+        found[place] = True
 
 
 def leads_with_number(F, name):

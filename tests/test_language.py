@@ -239,6 +239,46 @@ class Language(unittest.TestCase):
         for place, node in self.each(ast.Call):
             self.assertNotIn(called(node), ("set", "frozenset", "chr"), place)
 
+    def test_errors_are_made_on_the_spot_and_none_is_taken(self):
+        for place, node in self.each(ast.Raise):
+            self.assertIsInstance(node.exc, ast.Call, place)
+            self.assertIsNone(node.cause, place)
+        for place, node in self.each(ast.Try):
+            self.fail(place)
+
+    def test_keywords(self):
+        allowed = {"sorted": {"key", "reverse"}, "min": {"key", "default"}, "max": {"key", "default"}, "sum": {"start"},
+                   "enumerate": {"start"}, "zip": {"strict"}}
+        for place, node in self.each(ast.Call):
+            given = set([keyword.arg for keyword in node.keywords])
+            self.assertLessEqual(given, allowed.get(called(node), set()), place)
+
+    def test_init_gives_nothing_back(self):
+        for place, node in self.each(ast.FunctionDef):
+            if node.name == "__init__":
+                self.assertEqual([inner for inner in ast.walk(node) if isinstance(inner, ast.Return)], [], place)
+            else:
+                self.assertNotIn(node.name, UNDERSCORED, place)
+
+    def test_lists_and_dicts_of_the_top_are_only_read(self):
+        """They stand before an index or behind in, in their own file alone."""
+        for path in FILES:
+            tree = ast.parse(path.read_text())
+            kept = [node.targets[0].id for node in tree.body
+                    if isinstance(node, ast.Assign) and isinstance(node.value, (ast.List, ast.Dict))]
+            read = []
+            for node in ast.walk(tree):
+                if isinstance(node, ast.Subscript) and isinstance(node.ctx, ast.Load):
+                    read.append(node.value)
+                if isinstance(node, ast.Compare) and isinstance(node.ops[0], (ast.In, ast.NotIn)):
+                    read.append(node.comparators[0])
+            for node in ast.walk(tree):
+                if isinstance(node, ast.Name) and isinstance(node.ctx, ast.Load) and node.id in kept:
+                    self.assertTrue(any([node is inner for inner in read]), path.name + ":" + str(node.lineno))
+            for other in FILES:
+                self.assertEqual([name for module, name in imported(other)
+                                  if module == "realsay." + path.stem and name in kept], [], other.name)
+
     def test_texts_have_no_percent_sign(self):
         for place, node in self.each(ast.Constant):
             if isinstance(node.value, str):

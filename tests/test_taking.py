@@ -198,6 +198,14 @@ class Joined(Taking):
         self.assert_taken("x^2 + a*x + b < 0 and x >= c", count=100)
         self.assert_taken("x^2 + a*x + b = 0 and x^2 + c*x = 1", count=100)
 
+    def test_where_it_can_hold_at_borders_alone(self):
+        for text in ("(x = y or x = z) and (x < 1 or x^2 = 4)", "(x = 1 or x^2 = y) and x > z",
+                     "(x = y or x^2 = z and x > 0) and x /= 1", "(x = y or z = 1) and x < z", "x = y and x^2 = z",
+                     "(x = y or x = -y) and (x = z or x = 1 or x^2 = 2)", "(x = y or z*x = 1) and x < 3",
+                     "(x = y and x < z or x = z and x < y) and x > 0", "x^2 + y*x = z and (x = 1 or x < y)",
+                     "z*x = 1 and x = y", "(x^2 = y or x^2 + x = y) and (x > z or x = 0)"):
+            self.assert_taken(text, count=60)
+
     def test_more_bounds_on_one_side(self):
         for text in ("x > y and x > z and x > 1 and x < w", "x < y and x < z and x < 1 and x > w",
                      "x >= y and x > z and x >= 1 and x <= w", "x <= y and x <= z and x < 1 and x >= w",
