@@ -17,6 +17,11 @@ def plus(F, G):
 
 
 def times(F, G):
+    # Forms that are told at places have many a number among their factors: nothing has to be coded for these.
+    if is_number(F):
+        return scaled(G, number_of(F))
+    if is_number(G):
+        return scaled(F, number_of(G))
     names = names_of(F + G)
     base = highest_power(F) + highest_power(G) + 1
     right = coded(G, names, base)
@@ -70,6 +75,14 @@ def put_in(F, name, top, bottom):
     for power, part in enumerate(parts):
         pairs.extend(scaled(part, tops[power] * bottoms[highest - power]))
     return form_of(pairs)
+
+
+def is_number(F):
+    return F == () or (len(F) == 1 and F[0][0] == ())
+
+
+def number_of(F):
+    return F[0][1] if F != () else 0
 
 
 # A product's code is a whole number whose figures to the base are its powers; so two products are multiplied by adding

@@ -1,7 +1,7 @@
 """The line of one unknown: the numbers at which forms are 0, and fractions below, between and above them."""
 
 from realsay.errors import Beyond, Stranger
-from realsay.forms import by_power, names_of
+from realsay.forms import by_power, names_of, number_of
 from realsay.roots import floor_of, floor_of_root, order
 from realsay.values import sign_at
 
@@ -78,10 +78,6 @@ def zeros_of(F, name):
     if root * root == inner:
         return [with_bottom(side * root - numbers[1], 0, 0, 2 * numbers[2]) for side in (-1, 1)]
     return [with_bottom(-numbers[1], side, inner, 2 * numbers[2]) for side in (-1, 1)]
-
-
-def number_of(F):
-    return F[0][1] if F != () else 0
 
 
 def with_bottom(p, q, r, s):

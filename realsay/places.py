@@ -5,7 +5,7 @@ A place is told as a tuple, for which point_at makes the test point: ("far",); (
 above 0. All compares of the sentences here let the name in.
 """
 
-from realsay.forms import by_power, names_of, plus, power_in, scaled, times
+from realsay.forms import by_power, is_number, number_of, plus, power_in, scaled, times
 from realsay.points import Border, Far, Past, PastUpright, Upright
 from realsay.sentences import built_anew, compares_of, is_compare, parts_within
 
@@ -64,7 +64,7 @@ def note_places(places, found):
 
 def leads_with_number(F, name):
     parts = by_power(F, name)
-    return len(parts) > 1 and names_of(parts[-1]) == ()
+    return len(parts) > 1 and is_number(parts[-1])
 
 
 # The places from which on a compare holds that did not hold straight before; for a border of equal, itself.
@@ -87,7 +87,7 @@ def straight_beginnings(word, parts):
 
 
 def may_be_above(F):
-    return names_of(F) != () or F[0][1] > 0
+    return not is_number(F) or number_of(F) > 0
 
 
 # Less and most begin to hold at the lesser border where the number before the second power is above 0, and at the

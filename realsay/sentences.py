@@ -3,7 +3,7 @@
 What walks a sentence takes one call for each sentence within another, so that two hundred of them are not too deep.
 """
 
-from realsay.forms import lean, names_of, put_in
+from realsay.forms import is_number, lean, names_of, number_of, put_in
 
 YES = ("yes",)
 NO = ("no",)
@@ -12,11 +12,10 @@ SIGNS_OF = {"less": (-1,), "most": (-1, 0), "equal": (0,), "unlike": (-1, 1)}
 
 def compare(word, F):
     thin = lean(F)
-    if names_of(thin) != ():
+    if not is_number(thin):
         return (word, thin)
     # A lean form without unknowns is nought or has the one number 1 or -1, which is its own sign.
-    sign = thin[0][1] if thin != () else 0
-    return YES if sign_fits(word, sign) else NO
+    return YES if sign_fits(word, number_of(thin)) else NO
 
 
 def both(parts):

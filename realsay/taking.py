@@ -1,7 +1,7 @@
 """Unknowns taken out: a plain sentence without a name, that holds where some number for the name makes it hold."""
 
 from realsay.errors import Beyond
-from realsay.forms import by_power, names_of
+from realsay.forms import by_power, is_number
 from realsay.places import mirrored, places_of, point_at
 from realsay.sentences import NO, YES, both, built_anew, compares_of, either, free_in, is_compare, parts_within
 from realsay.settling import settle
@@ -25,7 +25,7 @@ def without(S, name):
 def refuse_beyond(S, name):
     for part in compares_of(S):
         parts = by_power(part[1], name)
-        if len(parts) > 3 or (len(parts) == 3 and names_of(parts[2]) != ()):
+        if len(parts) > 3 or (len(parts) == 3 and not is_number(parts[2])):
             raise Beyond(name, part[1])
 
 
