@@ -5,7 +5,8 @@ from realsay.forms import power_in
 from realsay.sentences import binds, free_in, is_compare, parts_within
 
 
-# Around it are the words in whose reach it stands; forms are those of the compares in its own reach, in their order.
+# Around it are the words in whose reach it stands; forms are the strained ones of compares in its own reach, in their
+# order.
 class Word:
     def __init__(self, name, around):
         self.name = name

@@ -34,7 +34,8 @@ class Sheet:
 
 
 def go_together(sentences):
-    S = both(sentences)
-    for name in reversed(free_in(S)):
-        S = some_of(name, S)
-    return truth(S)
+    together = both(sentences)
+    closed = together
+    for name in reversed(free_in(together)):
+        closed = some_of(name, closed)
+    return truth(closed)
