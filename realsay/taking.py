@@ -7,6 +7,11 @@ from realsay.sentences import NO, YES, both, built_anew, compares_of, either, fr
 from realsay.settling import settle
 from realsay.slimming import slim
 
+# More sentences that have been looked at are not kept, so that they need not much room.
+MOST_SEEN = 10000
+# That of a name in the first power that has one place.
+LEAST_COST = (2, 1)
+
 
 def points_of(S, name):
     refuse_beyond(S, name)
@@ -45,16 +50,16 @@ def put_parts(S, point, name, kept):
 # make it hold. An either is taken apart, as is a both whose parts share none of the names: so fewer compares meet.
 def taken_out(S, names):
     free = free_in(S)
-    left = [name for name in names if name in free]
+    left = [name for name in free if name in names]
     if left == []:
         return S
+    if len(left) == len(free):
+        return YES if can_hold(S) else NO
     if S[0] == "either":
         return apart_taken_out(S, S[1], left)
     groups = groups_of(S, left)
     if len(groups) > 1:
         return apart_taken_out(S, groups, left)
-    if len(free) == 1:
-        return YES if settle(S, free[0])[0] == "yes" else NO
     return first_taken_out(S, left)
 
 
@@ -69,58 +74,116 @@ def apart_taken_out(S, parts, names):
     return slim(built_anew(S, told))
 
 
-def groups_of(S, names):
-    groups = []
-    for part in parts_joined(S):
-        own = [name for name in free_in(part) if name in names]
-        members = []
-        apart = []
-        for group in groups:
-            if shares(own, group[0]):
-                own = own + group[0]
-                members = members + group[1]
-            else:
-                apart.append(group)
-        groups = apart + [(own, members + [part])]
-    return [both(group[1]) for group in groups]
-
-
-def shares(one, other):
-    return [name for name in one if name in other] != []
-
-
 def first_taken_out(S, names):
-    rows = [(part, free_in(part)) for part in parts_joined(S)]
-    chosen = cheapest(rows, names)
-    name = chosen[0]
-    others = [part for part, own in rows if name not in own]
-    rest = [other for other in names if other != name]
     told = {}
-    for place in places_of(chosen[1], name):
-        point = point_at(place)
-        part = slim(both([point.guard(), put_to(chosen[1], point, name)] + others))
+    for row in rows_at_places(S, names):
+        part = part_of(row)
         if part not in told:
-            told[part] = taken_out(part, rest)
+            told[part] = taken_out(part, names)
             if told[part] == YES:
                 return YES
     return slim(either(list(told.values())))
 
 
-def parts_joined(S):
-    return S[1] if S[0] == "both" else (S,)
+# Whether some numbers for all names make the plain sentence hold. What is still to be looked at waits in a list, not in
+# calls within one another, for a sheet may have very many names.
+def can_hold(S):
+    waiting = [(S, None, (), ())]
+    seen = {}
+    while waiting != []:
+        part = part_of(waiting.pop())
+        if part == YES:
+            return True
+        if len(seen) > MOST_SEEN:
+            seen.clear()
+        if part != NO and part not in seen:
+            seen[part] = True
+            waiting.extend(list(reversed(rows_within(part))))
+    return False
 
 
-# A pair of the name that is best taken out first and the both of the parts that have it, perhaps mirrored. The rows are
+# The rows of which one must be able to hold.
+def rows_within(S):
+    if S[0] == "either":
+        return [(part, None, (), ()) for part in S[1]]
+    free = free_in(S)
+    groups = sorted(groups_of(S, free), key=size_of)
+    for group in groups[:-1]:
+        if not can_hold(group):
+            return []
+    if len(groups) > 1:
+        return [(groups[-1], None, (), ())]
+    if len(free) == 1:
+        return [(YES, None, (), ())] if settle(S, free[0])[0] == "yes" else []
+    return rows_at_places(S, free)
+
+
+def size_of(S):
+    return len(free_in(S))
+
+
+# A row (sentence, name, place, others) stands for the sentence put to the place, with its guard and the others; where
+# the name is None, for the sentence itself.
+def part_of(row):
+    if row[1] is None:
+        return row[0]
+    point = point_at(row[2])
+    return slim(both([point.guard(), put_to(row[0], point, row[1])] + row[3]))
+
+
+def rows_at_places(S, names):
+    owners = [(part, free_in(part)) for part in parts_joined(S)]
+    chosen = cheapest(owners, names)
+    others = [part for part, own in owners if chosen[0] not in own]
+    return [(chosen[1], chosen[0], place, others) for place in places_of(chosen[1], chosen[0])]
+
+
+# A pair of the name that is best taken out first and the both of the parts that have it, perhaps mirrored. Owners are
 # pairs of a part and its names. Names in the first power go ahead: so no root comes in as long as others are left.
-def cheapest(rows, names):
+def cheapest(owners, names):
+    touched = {}
+    for part, own in owners:
+        for name in own:
+            touched.setdefault(name, []).append(part)
     best = None
     chosen = None
     for name in names:
-        touched = both([part for part, own in rows if name in own])
-        highest = max([len(by_power(part[1], name)) for part in compares_of(touched)])
-        for side in (touched, mirrored(touched, name)):
+        straight = both(touched[name])
+        highest = max([len(by_power(part[1], name)) for part in compares_of(straight)])
+        for side in (straight, mirrored(straight, name)):
             cost = (highest, len(places_of(side, name)))
             if best is None or cost < best:
                 best = cost
                 chosen = (name, side)
+        if best <= LEAST_COST:
+            return chosen
     return chosen
+
+
+# Those parts of a both stand in one group that names join, straight or by others between them. Each name leads to
+# another one of its group, and the last one to itself: by this one the group is known.
+def groups_of(S, names):
+    leads = dict(zip(names, names))
+    owners = []
+    for part in parts_joined(S):
+        own = [name for name in free_in(part) if name in leads]
+        owners.append((part, own))
+        for name in own:
+            leads[last_of(name, leads)] = last_of(own[0], leads)
+    groups = {}
+    for part, own in owners:
+        # A part without names is a group by itself.
+        known_by = last_of(own[0], leads) if own != [] else part
+        groups.setdefault(known_by, []).append(part)
+    return [both(group) for group in groups.values()]
+
+
+def last_of(name, leads):
+    last = name
+    while leads[last] != last:
+        last = leads[last]
+    return last
+
+
+def parts_joined(S):
+    return S[1] if S[0] == "both" else (S,)

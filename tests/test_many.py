@@ -367,6 +367,16 @@ class HandedIn(Many):
         S = read("some x: x^2 + b*x + c < 0 and x > d")
         self.assertEqual(freed(S), freed(S))
 
+    def test_very_many_words_within_one_another(self):
+        # As a sheet has them that knows very many sentences.
+        names = [one + other + "q" for one, other in itertools.product("abcdefghijklmnopqrst", repeat=2)]
+        row = [read(f"{one} < {other}") for one, other in zip(names, names[1:])]
+        for parts, wanted in ((row, True), (row[:150] + [read(f"{names[150]} < {names[0]}")], False)):
+            S = both(parts)
+            for name in names:
+                S = some_of(name, S)
+            self.assertIs(truth(S), wanted)
+
     def test_twelve_sentences_within_one_another(self):
         for first, second in itertools.product((some_of, all_of), repeat=2):
             S = read("p + a < b + c + d + e and f + g + h < i + k")
