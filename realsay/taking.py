@@ -88,7 +88,7 @@ def first_taken_out(S, names):
 # Whether some numbers for all names make the plain sentence hold. What is still to be looked at waits in a list, not in
 # calls within one another, for a sheet may have very many names.
 def can_hold(S):
-    waiting = [(S, None, (), ())]
+    waiting = [(S, None)]
     seen = {}
     while waiting != []:
         part = part_of(waiting.pop())
@@ -105,16 +105,16 @@ def can_hold(S):
 # The rows of which one must be able to hold.
 def rows_within(S):
     if S[0] == "either":
-        return [(part, None, (), ()) for part in S[1]]
+        return [(part, None) for part in S[1]]
     free = free_in(S)
     groups = sorted(groups_of(S, free), key=size_of)
     for group in groups[:-1]:
         if not can_hold(group):
             return []
     if len(groups) > 1:
-        return [(groups[-1], None, (), ())]
+        return [(groups[-1], None)]
     if len(free) == 1:
-        return [(YES, None, (), ())] if settle(S, free[0])[0] == "yes" else []
+        return [(YES, None)] if settle(S, free[0])[0] == "yes" else []
     return rows_at_places(S, free)
 
 
@@ -122,20 +122,22 @@ def size_of(S):
     return len(free_in(S))
 
 
-# A row (sentence, name, place, others) stands for the sentence put to the place, with its guard and the others; where
-# the name is None, for the sentence itself.
+# A row is a pair of a sentence and a step (name, place, others): it stands for the sentence put to the place, with the
+# place's guard and the others; or of a sentence and None, for the sentence itself.
 def part_of(row):
-    if row[1] is None:
+    step = row[1]
+    if step is None:
         return row[0]
-    point = point_at(row[2])
-    return slim(both([point.guard(), put_to(row[0], point, row[1])] + row[3]))
+    point = point_at(step[1])
+    return slim(both([point.guard(), put_to(row[0], point, step[0])] + step[2]))
 
 
 def rows_at_places(S, names):
     owners = [(part, free_in(part)) for part in parts_joined(S)]
     chosen = cheapest(owners, names)
-    others = [part for part, own in owners if chosen[0] not in own]
-    return [(chosen[1], chosen[0], place, others) for place in places_of(chosen[1], chosen[0])]
+    name = chosen[0]
+    others = [part for part, own in owners if name not in own]
+    return [(chosen[1], (name, place, others)) for place in places_of(chosen[1], name)]
 
 
 # A pair of the name that is best taken out first and the both of the parts that have it, perhaps mirrored. Owners are

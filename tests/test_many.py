@@ -36,6 +36,10 @@ TRUE = (
     "(some x: x^2 = 2) and (all y: some z: z = 2*y) and not (some w: w^2 = -1)",
     "(some x: x < 1 and x > 2) or (all x: x^2 + 1 > 0)", "yes", "not no",
     "all y: (all x: x^2 > y) or (some x: x^2 = y) and y >= 0", "some x: all y: y^2 >= x and x = 0",
+    "some x: some y: x^2 = 2 and y = 1", "some x: some y: some z: some w: x < y and y < x + 1 and z = 2*w and w > 3",
+    "some x: some z: some w: x^2 + z + w < 0 and x^2 - z - 2*w < 1 and x - z + w > 3 and x + z < 5",
+    "some z: some x: some y: z^2 + x + y < 4 and z^2 - x - 2*y < 4 and z + x > 1 and y > x and z < y",
+    "some a: some x: some y: a^2 + x + y < 4 and a^2 - x - 2*y < 4 and a + x > 1 and y > x and a < y",
 )
 FALSE = (
     "some x: x < 1 and x > 2", "all x: x < 1", "some x: x^2 < 0", "all x: x^2 > 0", "some x: x^2 + x + 1 = 0",
@@ -52,6 +56,22 @@ FALSE = (
     "all x: some z: z > x^2 and z < 2*x", "all x: x^2 <= 4 or (some z: some w: z < w and w < x and z > 2)",
     "all y: some x: x^2 > y and (all z: z > x or z < x)", "(some x: x^2 = 2) and (some x: x^2 = -2)", "no", "not yes",
     "some x: all y: y^2 >= x and x > 0",
+    # Names that have nothing to do with one another, of which some can't be so.
+    "some x: some y: x^2 < 0 and y = 1", "some x: some y: x = 1 and y^2 < 0",
+    "some x: some y: some z: x < y and y < x - 1 and z = 2", "some x: some y: some z: x = 2 and y < z and z < y - 1",
+    "some z: some x: some y: z^2 + z + 1 <= 0 and x < y and y < x + 1",
+    "some x: some y: some z: some w: x < y and y < x + 1 and z < w and 2*w < 2*z - 1",
+    "some x: some y: some z: some w: x < y and 2*y < 2*x - 1 and z < w and w < z + 1",
+    "some x: some y: some z: x = 1 and y^2 - y + 1 = 0 and z = 2",
+    "some x: some y: some z: some w: some v: x = 1 and y = 2 and z < w and w < v and v < z",
+    # A bent word with two others straight within it.
+    "some x: some z: some w: x^2 + z + w < 0 and x^2 - z - w < 0 and x > 1",
+    "some x: some z: some w: x^2 + z + w < 0 and x^2 - z - 2*w < 1 and x + z - w > 3 and w > 5 and x + z < 5",
+    "some y: some x: some z: x^2 + y + z < 1 and x^2 - y - z < 1 and x > 1 and y < z",
+    "all x: all z: all w: x^2 + z < w or x^2 - z < 2*w or x + w < 3*z or w < 9",
+    "some z: some x: some y: z^2 + x + y < 0 and z^2 - x - y < 0 and z > 1",
+    "some a: some x: some y: a^2 + x + y < 4 and a^2 - x - 2*y < 4 and a + x > 9 and y > x and a < y",
+    "some z: some x: some y: z^2 + x + y < 4 and z^2 - x - 2*y < 4 and z + x > 9 and y > x and z < y",
 )
 
 
@@ -247,6 +267,7 @@ class Drawn(Many):
 
     def test_bent(self):
         self.assert_drawn(32, (("x", "x"), ("yx", "x"), ("xz", "x"), ("yxz", "x"), ("xzw", "x")), (), 4, 100)
+        self.assert_drawn(35, (("zv", "z"), ("zvw", "z"), ("vzw", "z")), (), 4, 60)
 
     def test_bent_with_free_names(self):
         self.assert_drawn(33, (("x", "x"), ("yx", "x"), ("xz", "x"), ("yxz", "x")), ("a",), 3, 60)

@@ -89,6 +89,13 @@ class Telling(Sheets):
         self.assert_unchanged(made, errors.Clash, {}, made.tell, "z < x")
         self.assertEqual(made.tell("z > x"), 3)
 
+    def test_names_that_have_nothing_to_do_with_one_another(self):
+        made = told("x < y", "a = 1", "z < w", "w < v")
+        for text in ("v < z", "v < z and b = 1", "a^2 < 0", "y < x", "u < 1 and u > 2 and c < d"):
+            self.assert_unchanged(made, errors.Clash, {}, made.tell, text)
+        self.assert_answers(made, yes=("z < v", "x < y or v < z"), no=("v < z", "x < y and v < z"),
+                            open=("x < a", "z < a and v > a"))
+
     def test_at_one_point_alone(self):
         made = told("x >= 1", "x <= 1")
         self.assert_answers(made, yes=("x = 1",), no=("x /= 1",))
